@@ -1,0 +1,1 @@
+"""Partproof: statements over sums, named functions and arrays."""

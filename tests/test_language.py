@@ -143,6 +143,21 @@ class TestTrees(unittest.TestCase):
                 if getattr(node.func, "id", "") in ("set", "frozenset"):
                     self.assertIn(node, allowed)
 
+    def test_lists_and_dicts_of_a_top_are_only_read(self):
+        for name, tree in TREES.items():
+            kept = {node.targets[0].id for node in tree.body
+                    if isinstance(node, ast.Assign) and isinstance(node.value, (ast.List, ast.Dict))}
+            read = [node.value for node in nodes_of(tree, ast.Subscript) if isinstance(node.ctx, ast.Load)]
+            read += [right for node in nodes_of(tree, ast.Compare) for right in node.comparators]
+            read += [node.iter for node in nodes_of(tree, ast.For, ast.comprehension)]
+            read += [node.func.value for node in nodes_of(tree, ast.Call)
+                     if getattr(node.func, "attr", "") in ("get", "items", "keys", "values", "index", "count")]
+            read += [argument for node in nodes_of(tree, ast.Call) for argument in node.args
+                     if getattr(node.func, "id", "") in ("len", "list", "dict", "tuple", "sorted")]
+            for node in nodes_of(tree, ast.Name):
+                if node.id in kept and isinstance(node.ctx, ast.Load):
+                    self.assertIn(node, read, name)
+
     def test_methods_and_values(self):
         own, given = set(), set()
         for name, tree in TREES.items():

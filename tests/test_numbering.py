@@ -1,0 +1,34 @@
+"""Numbers for terms: like ones have one, and no key of their dict is deeper than a key may be."""
+
+import unittest
+
+from partproof.numbering import Numbering
+from samples import A, ARRAY_WRAPS, C, NUM_WRAPS, THING_WRAPS, X, Y, deep, plus, put, read
+
+DEEPEST_KEY = 8
+
+
+def depth(thing):
+    return 1 + max([depth(part) for part in thing], default=0) if isinstance(thing, tuple) else 0
+
+
+class TestNumbering(unittest.TestCase):
+    def test_keys_are_not_deep(self):
+        for wraps, leaf in [(NUM_WRAPS, X), (THING_WRAPS, C), (ARRAY_WRAPS, A)]:
+            for wrap in wraps:
+                numbering = Numbering()
+                numbering.number(deep(wrap, leaf, 12))
+                for key in numbering.numbers:
+                    self.assertLessEqual(depth(key), DEEPEST_KEY)
+
+    def test_like_terms_have_one_number(self):
+        numbering = Numbering()
+        terms = [X, plus(X, Y), read(put(A, X, Y), X), put(A, X, Y), Y, plus(Y, X)]
+        numbers = [numbering.number(term) for term in terms]
+        self.assertEqual(len(set(numbers)), len(terms))
+        self.assertEqual([numbering.number(term) for term in terms], numbers)
+        self.assertEqual([numbering.terms[number] for number in numbers], terms)
+
+
+if __name__ == "__main__":
+    unittest.main()

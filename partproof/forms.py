@@ -1,18 +1,38 @@
 """Forms: a constant and weights of bases, in the place of a term of the kind num."""
 
-from partproof.fractions import ONE, ZERO, fraction, plus, times
+from partproof.fractions import ONE, ZERO, plus, quotient, times
+
+MINUS_ONE = (-1, 1)
 
 
 def form_of(term):
     """The form of a term of the kind num."""
+    return form_by(term, lambda base: base)
+
+
+def form_by(term, key_of):
+    """The form of a term of the kind num, with a key of the asker's choice in the place of each base.
+
+    All else here works with such forms, too: a base is nothing but a key.
+    """
     word = term[0]
     if word == "number":
         return (term[1], {})
     if word == "weigh":
-        return combined([form_of(term[2])], [term[1]])
+        return combined([form_by(term[2], key_of)], [term[1]])
     if word == "plus":
-        return combined([form_of(part) for part in term[1]], [ONE] * len(term[1]))
-    return (ZERO, {term: ONE})
+        return combined([form_by(part, key_of) for part in term[1]], [ONE] * len(term[1]))
+    return (ZERO, {key_of(term): ONE})
+
+
+def difference_by(one, other, key_of):
+    """The form of one term less the other, with keys as above."""
+    return combined([form_by(one, key_of), form_by(other, key_of)], [ONE, MINUS_ONE])
+
+
+def negative(form):
+    """A form times -1."""
+    return combined([form], [MINUS_ONE])
 
 
 def combined(forms, weights):
@@ -43,8 +63,3 @@ def leading_ratio(one, other):
     if bases:
         return quotient(one[1].get(bases[0], ZERO), other[1][bases[0]])
     return quotient(one[0], other[0])
-
-
-def quotient(one, other):
-    """One fraction divided by the other, which is not 0."""
-    return fraction(one[0] * other[1], one[1] * other[0])

@@ -57,6 +57,11 @@ def times(one, other):
     return fraction(one[0] * other[0], one[1] * other[1])
 
 
+def quotient(one, other):
+    """One fraction divided by the other, which is not 0."""
+    return fraction(one[0] * other[1], one[1] * other[0])
+
+
 def under(one, other):
     """Whether one fraction is less than the other."""
     return one[0] * other[1] < other[0] * one[1]

@@ -40,3 +40,12 @@ class Numbering:
             self.numbers[key] = len(self.terms)
             self.terms.append(term)
         return self.numbers[key]
+
+
+def each_once(terms):
+    """The terms of a list, each once, where it stands first."""
+    numbering = Numbering()
+    unlike = {}
+    for term in terms:
+        unlike.setdefault(numbering.number(term), term)
+    return list(unlike.values())

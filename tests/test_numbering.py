@@ -2,7 +2,7 @@
 
 import unittest
 
-from partproof.numbering import Numbering
+from partproof.numbering import Numbering, each_once
 from samples import A, ARRAY_WRAPS, C, NUM_WRAPS, THING_WRAPS, X, Y, deep, plus, put, read
 
 DEEPEST_KEY = 8
@@ -28,6 +28,10 @@ class TestNumbering(unittest.TestCase):
         self.assertEqual(len(set(numbers)), len(terms))
         self.assertEqual([numbering.number(term) for term in terms], numbers)
         self.assertEqual([numbering.terms[number] for number in numbers], terms)
+
+    def test_each_once(self):
+        self.assertEqual(each_once([]), [])
+        self.assertEqual(each_once([Y, X, plus(X, Y), Y, plus(X, Y), plus(Y, X)]), [Y, X, plus(X, Y), plus(Y, X)])
 
 
 if __name__ == "__main__":

@@ -44,6 +44,9 @@ def fraction(top, bottom=1):
 
 def plus(one, other):
     """The sum of two fractions."""
+    # Most fractions are whole: for these no divisor need be sought.
+    if one[1] == 1 and other[1] == 1:
+        return (one[0] + other[0], 1)
     return fraction(one[0] * other[1] + other[0] * one[1], one[1] * other[1])
 
 
@@ -54,6 +57,8 @@ def minus(one, other):
 
 def times(one, other):
     """The product of two fractions."""
+    if one[1] == 1 and other[1] == 1:
+        return (one[0] * other[0], 1)
     return fraction(one[0] * other[0], one[1] * other[1])
 
 

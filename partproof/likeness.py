@@ -42,9 +42,10 @@ def reached_from(ways, start):
     waiting = [start]
     at = 0
     while at < len(waiting):
-        for mark, end in ways.get(waiting[at], []):
+        here = waiting[at]
+        for mark, end in ways.get(here, []):
             if end not in reached:
-                reached[end] = (mark, waiting[at])
+                reached[end] = (mark, here)
                 waiting.append(end)
         at += 1
     return reached

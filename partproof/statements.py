@@ -4,6 +4,7 @@ from partproof.errors import BadStatement, BadTerm
 from partproof.numbering import Numbering
 from partproof.terms import DEEPEST, kind_within, word_of
 
+ATOM_WORDS = ("atmost", "below", "same")
 LENGTHS = {"atmost": 3, "below": 3, "same": 3, "not": 2, "and": 2, "or": 2}
 
 
@@ -13,6 +14,17 @@ def check_statement(names, statement):
         check_within(names, statement, DEEPEST)
     except BadTerm:
         raise BadStatement("an atom speaks of what is no term, or too deep") from None
+
+
+def is_atom(names, thing):
+    """Whether a thing is an atom of the names."""
+    if word_of(thing) not in ATOM_WORDS:
+        return False
+    try:
+        check_statement(names, thing)
+    except BadStatement:
+        return False
+    return True
 
 
 def check_within(names, statement, room):

@@ -20,6 +20,14 @@ def kind_of(names, term):
     return kind_within(names, term, DEEPEST)
 
 
+def kind_or_none(names, thing):
+    """The kind of a term of the names, or None of all else."""
+    try:
+        return kind_of(names, thing)
+    except BadTerm:
+        return None
+
+
 def kind_within(names, term, room):
     """The kind of a term that may be as deep as room tells."""
     word = word_of(term)

@@ -64,6 +64,15 @@ THING_WRAPS = (lambda term: call("p", term), lambda term: call("g", term, ONE))
 ARRAY_WRAPS = (lambda term: put(term, ONE, X),)
 
 
+# How deep tuples may stand in one another in the key of a dict.
+DEEPEST_KEY = 8
+
+
+def depth(thing):
+    """How deep tuples stand in one another in a thing."""
+    return 1 + max([depth(part) for part in thing], default=0) if isinstance(thing, tuple) else 0
+
+
 def deep(wrap, leaf, many):
     """A leaf that is one deep, wrapped until it is so many deep."""
     for turn in range(many - 1):
@@ -76,3 +85,26 @@ def other_kinds():
             frozenset(), object(), names(), Names, len, range(2), (1, 2), (None,), ((),), ([],), ({},), ("",), ("x",),
             ["number", (1, 1)], ["unknown", "x"], {"number": (1, 1)}, {"unknown": "x"}, ["and", ()],
             (("number",), (1, 1)), (b"number", (1, 1)), (None, "x"), (0, "x"), (["plus"], ()), ({}, ())]
+
+
+def changed_somewhere(thing, change):
+    """All things that come of one made of tuples by a change at one place; the change tells (changed,), or None."""
+    changed = change(thing)
+    if changed is not None:
+        yield changed[0]
+    if isinstance(thing, tuple):
+        for at, part in enumerate(thing):
+            for inner in changed_somewhere(part, change):
+                yield thing[:at] + (inner,) + thing[at + 1:]
+
+
+def as_list(thing):
+    """For changed_somewhere: a tuple as a list."""
+    return (list(thing),) if isinstance(thing, tuple) else None
+
+
+def as_other_truth(thing):
+    """For changed_somewhere: a truth as the number that equals it, and the other way round."""
+    if isinstance(thing, bool):
+        return (int(thing),)
+    return (bool(thing),) if isinstance(thing, int) and thing in (0, 1) else None

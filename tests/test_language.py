@@ -21,6 +21,9 @@ NO_NAMES = """register mro elements open input version_info with_traceback add_n
 NO_NODES = (ast.With, ast.Match, ast.Global, ast.Nonlocal, ast.Yield, ast.YieldFrom, ast.AsyncFunctionDef, ast.Await,
             ast.AsyncFor, ast.AsyncWith, ast.NamedExpr, ast.GeneratorExp, ast.Div, ast.MatMult, ast.AnnAssign,
             ast.Import)
+# Names of methods of Python's own that values of objects may bear, too.
+VALUES = "count index title find get join lower upper split strip copy add".split()
+PLAIN_NODES = (ast.Constant, ast.Tuple, ast.List, ast.Dict, ast.UnaryOp, ast.USub, ast.Load, ast.Name)
 TOP_NODES = (ast.ImportFrom, ast.FunctionDef, ast.ClassDef, ast.Assign)
 TREES = {path.stem: ast.parse(path.read_text(), str(path)) for path in sorted(FOLDER.glob("*.py"))}
 
@@ -65,6 +68,16 @@ class TestTrees(unittest.TestCase):
             for node in tree.body[1:]:
                 self.assertIsInstance(node, TOP_NODES)
             self.assertEqual(len(top_names(tree)), len(set(top_names(tree))))
+
+    def test_values_of_a_top_are_plain(self):
+        for name, tree in TREES.items():
+            defs = [node.name for node in tree.body if isinstance(node, ast.FunctionDef)]
+            for node in [item.value for item in tree.body if isinstance(item, ast.Assign)]:
+                for part in ast.walk(node):
+                    self.assertIsInstance(part, PLAIN_NODES, name)
+                    self.assertTrue(not isinstance(part, ast.Name) or part.id in defs, name)
+                    if part is not node:
+                        self.assertNotIsInstance(part, (ast.List, ast.Dict), name)
 
     def test_imports_from_the_file_that_defines_and_in_no_ring(self):
         drawn = {}
@@ -167,6 +180,9 @@ class TestTrees(unittest.TestCase):
                     self.assertTrue(isinstance(item, ast.FunctionDef) or isinstance(item.value, ast.Constant))
             given |= {node.attr for node in nodes_of(tree, ast.Attribute) if isinstance(node.ctx, ast.Store)}
         self.assertEqual(own & given, set())
+        python_own = {method for kind in (str, int, list, dict, set, tuple, bytes) for method in dir(kind)}
+        self.assertEqual(own & python_own - set(METHODS + ["add", "discard"]), {"__init__"})
+        self.assertEqual(given & (python_own | {"args"}) - set(VALUES), set())
         for name, tree in TREES.items():
             called = [node.func for node in nodes_of(tree, ast.Call)]
             for node in nodes_of(tree, ast.Attribute):

@@ -3,13 +3,7 @@
 import unittest
 
 from partproof.numbering import Numbering, each_once
-from samples import A, ARRAY_WRAPS, C, NUM_WRAPS, THING_WRAPS, X, Y, deep, plus, put, read
-
-DEEPEST_KEY = 8
-
-
-def depth(thing):
-    return 1 + max([depth(part) for part in thing], default=0) if isinstance(thing, tuple) else 0
+from samples import A, ARRAY_WRAPS, C, DEEPEST_KEY, NUM_WRAPS, THING_WRAPS, X, Y, deep, depth, plus, put, read
 
 
 class TestNumbering(unittest.TestCase):

@@ -27,12 +27,16 @@ def pairs_of(terms):
 
 
 def ways_of(numbering, links):
-    """For each number of a term in links the tuples (mark, number) of the terms to which a link leads."""
+    """As ways_of_numbers, of links of terms."""
+    return ways_of_numbers([(mark, numbering.number(one), numbering.number(other)) for mark, one, other in links])
+
+
+def ways_of_numbers(links):
+    """For each number in links the tuples (mark, number) of the numbers to which a link leads."""
     ways = {}
     for mark, one, other in links:
-        start, end = numbering.number(one), numbering.number(other)
-        ways.setdefault(start, []).append((mark, end))
-        ways.setdefault(end, []).append((mark, start))
+        ways.setdefault(one, []).append((mark, other))
+        ways.setdefault(other, []).append((mark, one))
     return ways
 
 
@@ -54,11 +58,16 @@ def reached_from(ways, start):
 def chain(links, one, other):
     """The marks of links by which one comes from one term to the other, or None."""
     numbering = Numbering()
-    start, at = numbering.number(one), numbering.number(other)
-    reached = reached_from(ways_of(numbering, links), start)
-    if at not in reached:
+    return marks_between(ways_of(numbering, links), numbering.number(one), numbering.number(other))
+
+
+def marks_between(ways, start, end):
+    """The marks by which one comes from one number to another, or None."""
+    reached = reached_from(ways, start)
+    if end not in reached:
         return None
     marks = []
+    at = end
     while at != start:
         mark, at = reached[at]
         marks.append(mark)

@@ -2,11 +2,10 @@
 
 from partproof.arrays import hit, is_read_of_put, miss
 from partproof.forms import combined, factor, leading_ratio, negative
-from partproof.fractions import (ONE, ZERO, ceiling_of, common_divisor, floor_of, fraction, is_fraction, is_whole,
-                                 minus, times, under)
+from partproof.fractions import ONE, ZERO, is_fraction, is_whole, minus, under
 from partproof.likeness import family_of, places_of
+from partproof.rounds import rounded
 from partproof.statements import is_atom
-from partproof.tables import common_bottom
 from partproof.tellings import tellings_of
 from partproof.terms import kind_or_none, word_of
 
@@ -147,27 +146,13 @@ def shown_by_round(showing, step):
     row = showing.cited(step[1], ROW_WORDS)
     if row is None or not row[1][1] or not all([is_whole_base(showing, base) for base in row[1][1]]):
         return None
-    word, form = row
-    constant, weights = combined([form], [whole_factor(list(form[1].values()))])
-    if word == "equal":
-        return ("equal", (constant, weights)) if constant[1] == 1 else ("atmost", (ONE, {}))
-    rounded = ceiling_of(constant) if word == "atmost" else floor_of(constant) + 1
-    return ("atmost", ((rounded, 1), weights))
+    return rounded(row[0], row[1])
 
 
 def is_whole_base(showing, base):
     """Whether the base of a number is the unknown of a whole."""
     term = showing.tellings.numbering.terms[base]
     return term[0] == "unknown" and showing.names.bounds(term[1]) is not None
-
-
-def whole_factor(numbers):
-    """The fraction above 0 by which fractions become whole numbers that no number above 1 divides all."""
-    bottom = common_bottom(numbers)
-    divisor = 0
-    for number in numbers:
-        divisor = common_divisor(times(number, (bottom, 1))[0], divisor)
-    return fraction(bottom, divisor)
 
 
 def shown_by_like(showing, step):

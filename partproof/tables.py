@@ -13,7 +13,8 @@ The columns without a line count as 0. Lines never change, they are replaced: so
 table may share them.
 """
 
-from partproof.fractions import ONE, ZERO, common_divisor, fraction, plus, quotient, times, under
+from partproof.forms import negative
+from partproof.fractions import ONE, ZERO, common_divisor, fraction, minus, plus, quotient, times, under
 
 CONSTANT = 0
 SPECK = 1
@@ -67,6 +68,16 @@ def sign_of(line):
     """Below 0, 0 or above 0, as the value of a line's column is: the speck only tells where the constant is 0."""
     weights = line[1]
     return weights.get(CONSTANT, 0) or weights.get(SPECK, 0)
+
+
+def loosened(line, more):
+    """A line with so many specks more."""
+    if more == 0:
+        return line
+    bottom, weights = line
+    sums = dict(weights)
+    sums[SPECK] = sums.get(SPECK, 0) + more
+    return reduced(bottom, sums)
 
 
 def value_by(line, values):
@@ -209,9 +220,69 @@ class Table:
 
     def point(self):
         """A dict from the bases to values by which all rows hold, where settle told None."""
-        values = {CONSTANT: ONE, SPECK: self.speck()}
+        return self.point_by({CONSTANT: ONE, SPECK: self.speck()})
+
+    def point_by(self, values):
+        """A dict from the bases to values, by the values of columns without a line, 0 where there is none."""
         slacks = {column: value_by(line, values) for column, line in self.slack_lines.items()}
-        values.update(slacks)
+        known = dict(values)
+        known.update(slacks)
         for column, line in reversed(self.base_lines):
-            values[column] = value_by(line, values)
-        return {base: values.get(column, ZERO) for base, column in self.base_columns.items()}
+            known[column] = value_by(line, known)
+        return {base: known.get(column, ZERO) for base, column in self.base_columns.items()}
+
+    def loosen(self, rows):
+        """Makes equal rows of some, given by numbers, that were laid as below rows."""
+        columns = {self.row_columns[row]: True for row in rows}
+        # What was the slack less a speck is the slack itself now, so lines that bear it bear specks more or less.
+        self.fixed.update(columns)
+        for column, line in list(self.slack_lines.items()):
+            more = line[0] if column in columns else 0
+            self.slack_lines[column] = loosened(line, more - self.many_of(line, columns))
+        self.base_lines = [(column, loosened(line, -self.many_of(line, columns))) for column, line in self.base_lines]
+
+    def many_of(self, line, columns):
+        """The sum of a line's weights of some columns."""
+        return sum([number for column, number in line[1].items() if column in columns])
+
+    def rest_fixed(self):
+        """Takes the lines from the slacks of equal rows, where settle told None; no value changes by it."""
+        for column in [key for key in self.slack_lines if self.fixed[key]]:
+            helping = [key for key in self.slack_lines[column][1] if not self.is_fixed(key)]
+            if helping:
+                self.turn(column, helping[0])
+            else:
+                del self.slack_lines[column]
+
+    def is_fixed(self, column):
+        """Whether a column is the slack of an equal row."""
+        return self.fixed.get(column, False)
+
+    def line_of(self, form):
+        """The line of a form, over columns that have no lines themselves."""
+        return self.without_lines(self.slack_line("equal", negative(form)))
+
+    def loose_part(self, line):
+        """A line without the slacks of equal rows, as a tuple; behind rest_fixed, forms are equal where these are."""
+        bottom, weights = line
+        bottom, loose = reduced(bottom, {key: number for key, number in weights.items() if not self.is_fixed(key)})
+        return (bottom, tuple(sorted(loose.items())))
+
+    def free_bases(self):
+        """The columns of the bases without a line."""
+        lined = {column: True for column, line in self.base_lines}
+        return [column for column in self.base_columns.values() if column not in lined]
+
+    def free_slacks(self):
+        """The slacks that have no line and can grow."""
+        return [column for column in self.row_columns if column not in self.slack_lines and not self.fixed[column]]
+
+    def point_off(self, shifts):
+        """As point_by, with shifts of columns without a line; None where a row, laid as a below one, breaks."""
+        speck = self.speck()
+        values = {CONSTANT: ONE, SPECK: speck}
+        values.update(shifts)
+        for line in self.slack_lines.values():
+            if not under(minus(ZERO, speck), value_by(line, values)):
+                return None
+        return self.point_by(values)

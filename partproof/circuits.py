@@ -48,7 +48,12 @@ class Circuit:
         self.places = {}
         self.standing = []
         self.nodes = []
+        # For each atom the numbers of the nodes that are looked at when it comes to stand.
         self.uses = {}
+        # Of a node that is an or of literals alone, laid by lay_or, two are watched: as long as neither falls, or one
+        # is true, it asks for nothing. For each node its watched literals, and for each literal the nodes.
+        self.watched = {}
+        self.watchers = {}
 
     def lay_node(self, node):
         """Puts a node behind the others and tells its number."""
@@ -57,6 +62,44 @@ class Circuit:
         for atom in sorted({literal // 2 for literal in literals_in(node)}):
             self.uses.setdefault(atom, []).append(number)
         return number
+
+    def lay_or(self, literals):
+        """Puts an or of literals behind the other nodes and tells its number."""
+        number = len(self.nodes)
+        self.nodes.append(("or", tuple(literals)))
+        # Those that fell last are open first, when literals are taken away from behind.
+        latest = sorted(literals, key=lambda literal: -self.places.get(opposite(literal), len(self.standing)))
+        self.watched[number] = latest[:2]
+        for literal in latest[:2]:
+            self.watchers.setdefault(literal, []).append(number)
+        return number
+
+    def woken(self, literal):
+        """The nodes laid by lay_or that may ask for something when a literal has come to stand, as a list."""
+        fallen = opposite(literal)
+        woken, staying = [], []
+        watching = list(self.watchers.get(fallen, []))
+        for number in watching:
+            others = [watched for watched in self.watched[number] if watched != fallen]
+            if others and others[0] in self.places:
+                staying.append(number)
+                continue
+            instead = self.watchable(number, others)
+            if instead is None:
+                staying.append(number)
+                woken.append(number)
+            else:
+                self.watched[number] = others + [instead]
+                self.watchers.setdefault(instead, []).append(number)
+        self.watchers[fallen] = staying
+        return woken
+
+    def watchable(self, number, others):
+        """A literal of a node that has not fallen and is not watched yet, or None."""
+        for literal in self.nodes[number][1]:
+            if opposite(literal) not in self.places and literal not in others:
+                return literal
+        return None
 
     def stand(self, literal):
         """Lets a literal stand; where its atom stands with the other sign, that one goes on to tell."""

@@ -63,3 +63,12 @@ def leading_ratio(one, other):
     if bases:
         return quotient(one[1].get(bases[0], ZERO), other[1][bases[0]])
     return quotient(one[0], other[0])
+
+
+def scaled(form):
+    """A tuple that forms over numbers share where one is a multiple of the other."""
+    constant, weights = form
+    rows = sorted(weights.items())
+    # Any place that is not 0 will do, if it is the same one for both.
+    leading = rows[0][1] if rows else (ONE if constant == ZERO else constant)
+    return (quotient(constant, leading), tuple([(base, quotient(weight, leading)) for base, weight in rows]))

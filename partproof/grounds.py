@@ -3,6 +3,7 @@
 from partproof.facts import fact_of_form, fact_of_things
 from partproof.forms import MINUS_ONE, combined, form_by
 from partproof.fractions import ONE
+from partproof.likeness import places_of
 from partproof.numbering import Numbering
 
 
@@ -13,6 +14,8 @@ class Ground:
         self.names = names
         self.numbering = Numbering()
         self.forms = {}
+        self.places = {}
+        self.gaps = {}
         self.literals = {}
 
     def number_of(self, term):
@@ -46,9 +49,22 @@ class Ground:
             self.forms[number] = form_by(self.term_of(number), lambda base: self.number_of(base))
         return self.forms[number]
 
+    def place_numbers(self, number):
+        """The places of a call or a read, as a list of numbers."""
+        if number not in self.places:
+            self.places[number] = [self.number_of(place) for place in places_of(self.term_of(number))]
+        return self.places[number]
+
     def less(self, one, other):
         """The form of one term less another, both known by numbers."""
         return combined([self.form(one), self.form(other)], [ONE, MINUS_ONE])
+
+    def gap(self, number):
+        """The form of the place of a read of a put, less the put's place."""
+        if number not in self.gaps:
+            read = self.term_of(number)
+            self.gaps[number] = self.less(self.number_of(read[2]), self.number_of(read[1][2]))
+        return self.gaps[number]
 
     def fact(self, atom, sign):
         """The fact of a literal, terms as numbers."""

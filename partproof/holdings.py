@@ -7,7 +7,7 @@ is a sum of equal rows.
 """
 
 from partproof.fractions import ZERO, minus, plus, quotient, times, under
-from partproof.tables import Table
+from partproof.tables import Table, sign_of
 
 
 def added(weights, others, many):
@@ -93,6 +93,10 @@ class Holding:
     def is_nought(self, form):
         """Whether a form is forced to be 0."""
         return self.loose_part(form)[1] == ()
+
+    def sign(self, form):
+        """Below 0, 0 or above 0, as a form is by one point of the rows."""
+        return sign_of(self.table.line_of(form))
 
     def weights_of(self, form):
         """Weights of equal rows, as a dict, of which the sum is a form that is forced to be 0."""

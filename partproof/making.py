@@ -1,7 +1,7 @@
 """Worlds made of states in which nothing is left to tell, no read of a put is undecided and all wholes are settled."""
 
 from partproof.fractions import ONE, ZERO, fraction
-from partproof.likeness import family_of, places_of
+from partproof.likeness import family_of
 from partproof.sums import value_at
 from partproof.worlds import World
 
@@ -73,13 +73,11 @@ def tables_by(state, point, things):
             return None
     tables = {}
     for number in state.wanted:
-        term = state.ground.term_of(number)
-        family = family_of(term)
+        family = family_of(state.ground.term_of(number))
         if family is None:
             continue
         table = tables.setdefault(family, {})
-        key = tuple([value_by(state.ground, point, things, state.ground.number_of(place))
-                     for place in places_of(term)])
+        key = tuple([value_by(state.ground, point, things, place) for place in state.ground.place_numbers(number)])
         told = value_by(state.ground, point, things, number)
         if table.setdefault(key, told) != told:
             return None

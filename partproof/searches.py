@@ -1,17 +1,29 @@
 """Searches for a world of told statements, which leave a book where there is none.
 
-Literals are put on a path, one at a time: those that the told statements or a kept clash ask for,
+Literals are put on a path, one at a time: those that the told statements or a kept book ask for,
 else one that is tried. Where the path has come to a clash, it is gone back, and the books of both
 sides become one; a literal that a book does not need is left out of it.
+
+What closes a path is a tuple of a book, a dict of the literals that it needs, and how large it is.
+In these books atoms are known by their numbers; a kept one may be put where its atoms stand
+already, so the whole book is written out in the end (trims).
 """
 
 from partproof.circuits import Circuit, node_of, opposite
 from partproof.grounds import Ground
 from partproof.states import State
 from partproof.together import outcome
+from partproof.trims import written_out
+from partproof.worlds import holds
 
 # Behind so many clashes, those of late weigh double.
 CLASHES_TO_FADE = 40
+# Books are kept for other paths only where they are small, so that what is put together of them does not grow wild,
+# and need few literals, since else they are hardly asked for.
+LARGEST_KEPT = 300
+MOST_NEEDED = 16
+# The size of a book with a cut, which is not kept for other paths.
+NEVER_KEPT = 1000000000
 
 
 class Search:
@@ -22,7 +34,7 @@ class Search:
         self.atoms = []
         self.atom_numbers = {}
         self.circuit = Circuit()
-        # For each node of the circuit the book that it makes where it is false.
+        # For each node of the circuit the book that closes a path where it is false, and how large it is.
         self.leaves = []
         # For each literal on the path its branch, and why the other side is closed: see closed_by.
         self.reasons = []
@@ -44,7 +56,7 @@ class Search:
         parts = node[1] if isinstance(node, tuple) and node[0] == "and" else (node,)
         for part in parts:
             self.circuit.lay_node(part)
-            self.leaves.append(("plain", number))
+            self.leaves.append((("plain", number), 1))
 
     def literal_of(self, atom, sign):
         """The literal of an atom and a sign, as a number."""
@@ -67,7 +79,7 @@ class Search:
             else:
                 book = self.gone_back(closed)
                 if book is not None:
-                    return book
+                    return written_out(book, self.atoms)
                 closed = None
 
     def first_closed(self):
@@ -93,19 +105,20 @@ class Search:
         return None
 
     def closed_by(self, number, limit, assumed):
-        """A node's book, and the literals that it needs, of the first so many that stand and one assumed."""
-        return (self.leaves[number], self.circuit.blame(self.circuit.nodes[number], limit, assumed))
+        """What closes a path by a node, of the first so many literals that stand and one assumed."""
+        book, size = self.leaves[number]
+        return (book, self.circuit.blame(self.circuit.nodes[number], limit, assumed), size)
 
     def go_case(self, literal, why):
         """Puts a literal on the path as one side of a case."""
-        self.go(literal, opposite(literal), (("case", self.atoms[literal // 2]), literal & 1 == 0), why)
+        self.go(literal, opposite(literal), (("case", literal // 2), literal & 1 == 0), why)
 
     def go(self, literal, mate, side, why):
         """Puts a literal on the path.
 
         Its mate is the literal of the other side; the side tells the head of the book of both, and whether this
-        one comes first in it; why tells what closes the other side: a node's number, a tuple of a book and the
-        literals that it needs, or None where it is still to be tried.
+        one comes first in it; why tells what closes the other side, by itself or as the number of a node that does,
+        or is None where it is still to be tried.
         """
         self.circuit.stand(literal)
         self.reasons.append((mate, side, why))
@@ -114,8 +127,9 @@ class Search:
         """Goes on by all that is asked for; tells what closes the path, or None."""
         standing = self.circuit.standing
         while self.many_seen < len(standing):
+            literal = standing[self.many_seen]
             self.many_seen += 1
-            for number in self.circuit.uses.get(standing[self.many_seen - 1] // 2, []):
+            for number in self.circuit.uses.get(literal // 2, []) + self.circuit.woken(literal):
                 closed = self.heed(number)
                 if closed is not None:
                     return closed
@@ -123,19 +137,24 @@ class Search:
             self.state.tell(self.atoms[literal // 2], literal & 1 == 0)
         self.many_heard = len(standing)
         steps = self.state.close()
-        return None if steps is None else self.kept(steps)
+        return None if steps is None else self.closed_by_clash(steps)
 
-    def kept(self, steps):
-        """Keeps a clash, so that it asks for literals, too; tells its book and the literals that it needs."""
+    def closed_by_clash(self, steps):
+        """What closes a path by a clash, which is kept."""
         used = {self.literal_of(step[1], step[2]): True for step in steps if step[0] == "told"}
-        self.circuit.lay_node(("or", tuple([opposite(literal) for literal in used])))
-        self.leaves.append(("clash", steps))
-        return (self.leaves[-1], used)
+        closed = (("clash", steps), used, len(steps) + 1)
+        self.keep_book(closed)
+        return closed
+
+    def keep_book(self, closed):
+        """Keeps what closes a path for all paths of the literals that it needs; tells the number of its node."""
+        book, used, size = closed
+        self.leaves.append((book, size))
+        return self.circuit.lay_or([opposite(literal) for literal in used])
 
     def gone_back(self, closed):
         """Goes back to a literal that was tried and tries its mate; tells the whole book where there is none."""
-        book, used = closed
-        self.weigh(used)
+        self.weigh(closed[1])
         while self.reasons:
             place = len(self.reasons) - 1
             literal = self.circuit.standing[place]
@@ -144,15 +163,19 @@ class Search:
             if why is None:
                 self.state = self.saved.pop()
                 self.many_heard = self.many_seen = place
-            if literal in used:
+            if literal in closed[1]:
                 if why is None:
-                    self.go(mate, literal, (side[0], not side[1]), (book, used))
+                    self.go(mate, literal, (side[0], not side[1]), self.learnt(closed))
                     return None
                 other = self.closed_by(why, place, mate) if isinstance(why, int) else why
-                book = joined(side, book, other[0])
-                used = {key: True for key in used if key != literal}
-                used.update({key: True for key in other[1] if key != mate})
-        return book
+                closed = joined(side, (literal, closed), (mate, other))
+        return closed[0]
+
+    def learnt(self, closed):
+        """What closes a path, as the number of a node where it is worth keeping."""
+        if closed[2] <= LARGEST_KEPT and len(closed[1]) <= MOST_NEEDED:
+            return self.keep_book(closed)
+        return closed
 
     def weigh(self, used):
         """Gives weight to the atoms of a clash, more to later ones."""
@@ -164,15 +187,17 @@ class Search:
 
     def tried(self):
         """Tries one more literal; tells the world where there is none to try."""
-        literal = self.picked()
-        told = ("literal", literal) if literal is not None else outcome(self.state)
-        if told[0] == "world":
-            return told[1]
+        told = outcome(self.state)
+        world = told[1] if told[0] == "world" else None
+        # As long as there is a world of the path, only what is not so in it is worth trying.
+        literal = self.literal_of(told[1], False) if told[0] == "case" else self.picked(world)
+        if literal is None and world is not None:
+            return world
         self.saved.append(self.state.copied())
-        if told[0] == "cut":
+        if literal is None:
             self.go_cut(told[1], told[2])
         else:
-            self.go_case(self.literal_of(told[1], False) if told[0] == "case" else literal, None)
+            self.go_case(literal, None)
         return None
 
     def go_cut(self, name, number):
@@ -180,22 +205,40 @@ class Search:
         unknown = ("unknown", name)
         low = self.literal_of(("atmost", unknown, ("number", (number, 1))), True)
         high = self.literal_of(("atmost", ("number", (number + 1, 1)), unknown), True)
-        self.go(low, high, (("cut", name, number), True), None)
+        self.go(low, high, (("cut", (name, number, low // 2, high // 2)), True), None)
 
-    def picked(self):
-        """A literal that would help a told statement that is not true yet, or None; the narrowest one first."""
+    def picked(self, world):
+        """A literal that would help a told statement that is open, and not so in a world if there is one; else None."""
         best = None
+        truths = {}
         for node in self.circuit.nodes[:self.many_laid]:
-            if self.circuit.truth(node) is None:
-                literals = self.circuit.left_in(node)
-                weight, literal = max([(self.weights.get(one // 2, 0), -one) for one in literals])
-                rank = (len(literals), -weight, -literal)
-                if best is None or rank < best:
-                    best = rank
+            if self.circuit.truth(node) is not None or world is not None and self.is_so(world, node, truths):
+                continue
+            literals = self.circuit.left_in(node)
+            weight, literal = max([(self.weights.get(one // 2, 0), -one) for one in literals])
+            # The narrowest one comes first, then that which clashes most.
+            rank = (len(literals), -weight, -literal)
+            if best is None or rank < best:
+                best = rank
         return None if best is None else best[2]
 
+    def is_so(self, world, node, truths):
+        """Whether a node is true in a world; the truths of atoms are kept in a dict."""
+        if not isinstance(node, int):
+            parts = [self.is_so(world, part, truths) for part in node[1]]
+            return all(parts) if node[0] == "and" else any(parts)
+        atom = node // 2
+        if atom not in truths:
+            truths[atom] = holds(world, self.atoms[atom])
+        return truths[atom] == (node & 1 == 0)
 
-def joined(side, book, other):
-    """The book of two sides; the side of the first one is told."""
+
+def joined(side, row, other_row):
+    """What closes a path by two sides, each told as a literal and what closes the path with it."""
     head, is_first = side
-    return head + ((book, other) if is_first else (other, book))
+    literal, (book, used, size) = row
+    mate, (other, other_used, other_size) = other_row
+    needed = {key: True for key in used if key != literal}
+    needed.update({key: True for key in other_used if key != mate})
+    whole = head + ((book, other) if is_first else (other, book))
+    return (whole, needed, NEVER_KEPT if head[0] == "cut" else size + other_size + 1)

@@ -1,13 +1,12 @@
 """States: literals that are told, and what the parts have told one another of them."""
 
 from partproof.arrays import hit, is_read_of_put, miss
-from partproof.forms import factor, negative
+from partproof.forms import factor, negative, scaled
 from partproof.fractions import ONE, ZERO, ceiling_of, floor_of, fraction, minus, quotient, under
 from partproof.holdings import Holding
 from partproof.ledgers import steps_to
-from partproof.likeness import family_of, marks_between, places_of, reached_from, ways_of_numbers
+from partproof.likeness import family_of, marks_between, reached_from, ways_of_numbers
 from partproof.rounds import rounded
-from partproof.sums import value_at
 from partproof.tables import CONSTANT
 
 
@@ -20,6 +19,7 @@ class State:
         self.holding = Holding()
         # Facts of the words unlike, other and alike, each behind the number of its step.
         self.unlikes = []
+        self.unlike_entries = {}
         self.others = []
         self.links = []
         # The bases and things that need a value, and the reads of puts among them that are neither hit nor miss yet.
@@ -35,6 +35,7 @@ class State:
         state.ledger = list(self.ledger)
         state.holding = self.holding.copied()
         state.unlikes = list(self.unlikes)
+        state.unlike_entries = dict(self.unlike_entries)
         state.others = list(self.others)
         state.links = list(self.links)
         state.wanted = dict(self.wanted)
@@ -61,6 +62,7 @@ class State:
             self.want(fact[2])
         elif fact[0] == "unlike":
             self.unlikes.append((entry, fact[1]))
+            self.unlike_entries.setdefault(scaled(fact[1]), entry)
             self.want_bases(fact[1])
         else:
             self.take_row(fact, entry)
@@ -104,14 +106,13 @@ class State:
             self.hold_bounds(term[1], number)
         if is_read_of_put(term):
             self.undecided[number] = True
-            self.want_place(term[1][2])
+            self.want_place(self.ground.number_of(term[1][2]))
         if term[0] in ("call", "read"):
-            for place in places_of(term):
+            for place in self.ground.place_numbers(number):
                 self.want_place(place)
 
-    def want_place(self, place):
+    def want_place(self, number):
         """Wants what the value of a place hangs on."""
-        number = self.ground.number_of(place)
         if self.ground.is_thing(number):
             self.want(number)
         else:
@@ -222,28 +223,26 @@ class State:
         firsts = self.first_things()
         groups = {}
         for number in list(self.wanted):
-            term = self.ground.term_of(number)
-            family = family_of(term)
+            family = family_of(self.ground.term_of(number))
             if family is None:
                 continue
-            key = (family, tuple([self.sameness(firsts, place) for place in places_of(term)]))
+            key = (family, tuple([self.sameness(firsts, place) for place in self.ground.place_numbers(number)]))
             first = groups.setdefault(key, number)
-            if self.sameness(firsts, self.ground.term_of(first)) != self.sameness(firsts, term):
+            if first != number and self.sameness(firsts, first) != self.sameness(firsts, number):
                 self.tell_like(first, number)
 
-    def sameness(self, firsts, term):
+    def sameness(self, firsts, number):
         """What two terms share just where they are forced to be equal or alike."""
-        number = self.ground.number_of(term)
         if self.ground.is_thing(number):
             return firsts.get(number, number)
         return self.holding.loose_part(self.ground.form(number))
 
     def tell_like(self, one, other):
         """Tells that two calls or reads at equal places are equal or alike."""
+        places, others = self.ground.place_numbers(one), self.ground.place_numbers(other)
+        cites = tuple([self.cite(place, other_place) for place, other_place in zip(places, others)])
         first, second = self.ground.term_of(one), self.ground.term_of(other)
-        cites = [self.cite(self.ground.number_of(place), self.ground.number_of(other_place))
-                 for place, other_place in zip(places_of(first), places_of(second))]
-        entry = self.enter(("like", first, second, tuple(cites)))
+        entry = self.enter(("like", first, second, cites))
         self.take(self.ground.fact(("same", first, second), True), entry)
 
     def cite(self, one, other):
@@ -256,7 +255,7 @@ class State:
         """The arrays' part: reads of puts are told equal to their hits or misses, where the places tell which."""
         for number in list(self.undecided):
             read = self.ground.term_of(number)
-            form = self.ground.less(self.ground.number_of(read[2]), self.ground.number_of(read[1][2]))
+            form = self.ground.gap(number)
             if self.holding.is_nought(form):
                 self.tell_read(number, hit(read), ("hit", read, self.equality(form)))
                 continue
@@ -271,9 +270,9 @@ class State:
 
     def unlikeness(self, form, read):
         """The number of a step by which a read's place and its put's are not equal, or None."""
-        for entry, unlike in self.unlikes:
-            if factor(form, unlike) is not None:
-                return entry
+        entry = self.unlike_entries.get(scaled(form))
+        if entry is not None:
+            return entry
         if not form[1]:
             return self.enter(("apart", None, read[2], read[1][2]))
         weights = self.apart(form)
@@ -283,12 +282,11 @@ class State:
 
     def apart(self, form):
         """Weights of rows of which the sum keeps a form, or it times -1, below 0; None where it may be 0."""
-        number = value_at(form, self.holding.table.point())
-        if number == ZERO:
+        sign = self.holding.sign(form)
+        if sign == 0:
             return None
-        side = negative(form) if under(number, ZERO) else form
         tried = self.holding.copied()
-        tried.hold("atmost", side, None)
+        tried.hold("atmost", negative(form) if sign < 0 else form, None)
         weights = tried.clash()
         # Rows that were told in this round may clash by themselves; the next round tells of it.
         if weights is None or len(self.holding.rows) not in weights:

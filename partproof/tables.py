@@ -13,7 +13,6 @@ The columns without a line count as 0. Lines never change, they are replaced: so
 table may share them.
 """
 
-from partproof.forms import negative
 from partproof.fractions import ONE, ZERO, common_divisor, fraction, minus, plus, quotient, times, under
 
 CONSTANT = 0
@@ -133,14 +132,23 @@ class Table:
 
     def slack_line(self, word, form):
         """The line of a row's slack, over bases."""
+        bottom, line = self.base_line(form)
+        slack = {column: -number for column, number in line.items()}
+        slack[SPECK] = -bottom if word == "below" else 0
+        return reduced(bottom, slack)
+
+    def base_line(self, form):
+        """The line of a form, over bases."""
         constant, weights = form
         bottom = common_bottom([constant] + list(weights.values()))
-        line = {CONSTANT: -times(constant, (bottom, 1))[0], SPECK: -bottom if word == "below" else 0}
-        for base, weight in weights.items():
+        line = {}
+        if constant != ZERO:
+            line[CONSTANT] = bottom // constant[1] * constant[0]
+        for base, (top, own) in weights.items():
             if base not in self.base_columns:
                 self.base_columns[base] = self.new_column()
-            line[self.base_columns[base]] = -times(weight, (bottom, 1))[0]
-        return reduced(bottom, line)
+            line[self.base_columns[base]] = bottom // own * top
+        return (bottom, line)
 
     def without_lines(self, line):
         """A line without the columns that have lines themselves."""
@@ -260,7 +268,8 @@ class Table:
 
     def line_of(self, form):
         """The line of a form, over columns that have no lines themselves."""
-        return self.without_lines(self.slack_line("equal", negative(form)))
+        line = self.base_line(form)
+        return self.without_lines(line) if form[1] else line
 
     def loose_part(self, line):
         """A line without the slacks of equal rows, as a tuple; behind rest_fixed, forms are equal where these are."""

@@ -1,12 +1,9 @@
 """Worlds made of states in which nothing is left to tell, no read of a put is undecided and all wholes are settled."""
 
-from partproof.fractions import ONE, ZERO, fraction
+from partproof.fractions import ZERO, fraction
 from partproof.likeness import family_of
 from partproof.sums import value_at
 from partproof.worlds import World
-
-# Behind so many halvings of the shifts another row of shifts is tried.
-MOST_HALVINGS = 40
 
 
 def world_of(state):
@@ -36,17 +33,17 @@ def thing_values(state):
 
 def shifted_point(table, attempt):
     """A point of a table's rows, at first a plain one, then ones that keep off more and more."""
-    scale = ONE
-    for turn in range(MOST_HALVINGS):
-        point = table.point_off(shifts_of(table, attempt, scale))
+    bottom = 1
+    # Slacks that are shifted by little enough break no row.
+    while True:
+        point = table.point_off(shifts_of(table, attempt, bottom))
         if point is not None:
             return point
-        scale = fraction(scale[0], scale[1] * 2)
-    return table.point()
+        bottom = bottom * bottom * 2
 
 
-def shifts_of(table, attempt, scale):
-    """Values for the columns that may be chosen: bases at will, slacks by a scale."""
+def shifts_of(table, attempt, bottom):
+    """Values for the columns that may be chosen: bases at will, slacks less than 1, divided by a bottom."""
     if attempt == 0:
         return {}
     shifts = {}
@@ -54,7 +51,7 @@ def shifts_of(table, attempt, scale):
         shifts[column] = (power(at + 2, attempt), 1)
     slacks = table.free_slacks()
     for at, column in enumerate(slacks):
-        shifts[column] = fraction(scale[0] * power(at + 2, attempt), scale[1] * power(len(slacks) + 2, attempt))
+        shifts[column] = fraction(power(at + 2, attempt), bottom * power(len(slacks) + 2, attempt))
     return shifts
 
 

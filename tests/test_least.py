@@ -7,7 +7,7 @@ from answering import check_answer
 from drawing import Draw
 from partproof.cases import answer
 from partproof.errors import BadStatement
-from partproof.least import least_clash
+from partproof.least import least_clash, plain_numbers
 from partproof.worlds import World
 from samples import A, C, D, HALF, K, M, X, Y, ZERO, call, deep, names, number, other_kinds, plus, put, read, weigh
 
@@ -23,6 +23,10 @@ CLASHES = {
     "three": (("or", (("same", X, Y), ("same", X, K))), ("below", X, Y), ("below", X, K)),
     "three by a read": (("not", ("same", X, Y)), ("same", read(put(A, X, HALF), Y), HALF), ("below", read(A, Y), HALF)),
     "wholes": (("same", weigh(2, 1, K), plus(M, X)), ("same", X, HALF)),
+    "a whole by cases": (("or", (("same", K, ZERO), ("same", K, number(5)))), ("not", ("same", call("f", K), call("f", ZERO))),
+                         ("not", ("same", call("f", K), call("f", number(5))))),
+    "cuts and cases": (("or", (("below", K, number(4)), ("not", ("same", call("f", K), call("f", number(4)))))),
+                       ("same", call("f", number(4)), call("f", number(5))), ("atmost", number(4), K)),
     "six": RING,
 }
 
@@ -91,6 +95,13 @@ class TestLeast(unittest.TestCase):
                 with self.assertRaises(BadStatement) as caught:
                     least_clash(names(), told)
                 self.assertIs(type(caught.exception), BadStatement)
+
+
+class TestPlain(unittest.TestCase):
+    def test_numbers_of_a_book(self):
+        book = ("case", "a", ("plain", 3), ("cut", "k", 0, ("clash", ()), ("cut", "k", 1, ("plain", 5), ("plain", 0))))
+        self.assertEqual(sorted(plain_numbers(book)), [0, 3, 5])
+        self.assertEqual(plain_numbers(("clash", ())), [])
 
 
 class TestOwn(unittest.TestCase):

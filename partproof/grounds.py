@@ -66,7 +66,7 @@ class Ground:
             self.gaps[number] = self.less(self.number_of(read[2]), self.number_of(read[1][2]))
         return self.gaps[number]
 
-    def fact(self, atom, sign):
+    def literal_fact(self, atom, sign):
         """The fact of a literal, terms as numbers."""
         key = (self.key_of(atom), sign)
         if key not in self.literals:

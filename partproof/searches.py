@@ -9,7 +9,7 @@ In these books atoms are known by their numbers; a kept one may be put where its
 already, so the whole book is written out in the end (trims).
 """
 
-from partproof.circuits import Circuit, node_of, opposite
+from partproof.circuits import Circuit, opposite, shape_of
 from partproof.grounds import Ground
 from partproof.states import State
 from partproof.together import outcome
@@ -34,7 +34,7 @@ class Search:
         self.atoms = []
         self.atom_numbers = {}
         self.circuit = Circuit()
-        # For each node of the circuit the book that closes a path where it is false, and how large it is.
+        # For each want of the circuit the book that closes a path where it is false, and how large it is.
         self.leaves = []
         # For each literal on the path its branch, and why the other side is closed: see closed_by.
         self.reasons = []
@@ -51,11 +51,11 @@ class Search:
         self.many_laid = len(self.leaves)
 
     def lay_told(self, number, statement):
-        """Lays the nodes of a told statement."""
-        node = node_of(statement, True, lambda atom: self.literal_of(atom, True))
-        parts = node[1] if isinstance(node, tuple) and node[0] == "and" else (node,)
+        """Lays the wants of a told statement."""
+        shape = shape_of(statement, True, lambda atom: self.literal_of(atom, True))
+        parts = shape[1] if isinstance(shape, tuple) and shape[0] == "and" else (shape,)
         for part in parts:
-            self.circuit.lay_node(part)
+            self.circuit.lay_shape(part)
             self.leaves.append((("plain", number), 1))
 
     def literal_of(self, atom, sign):
@@ -91,12 +91,12 @@ class Search:
         return None
 
     def heed(self, number):
-        """Puts what a node asks for on the path; tells what closes it, or None."""
-        asked = self.circuit.asked(self.circuit.nodes[number])
+        """Puts what a want asks for on the path; tells what closes it, or None."""
+        asked = self.circuit.asked(number)
         if asked is None:
             return self.closed_by(number, len(self.reasons), None)
         for literal in asked:
-            # Where it is asked for twice, it stands by now; where with both signs, the node is false by now.
+            # Where it is asked for twice, it stands by now; where with both signs, the want is false by now.
             if literal in self.circuit.places:
                 continue
             if self.circuit.is_settled(literal):
@@ -105,9 +105,9 @@ class Search:
         return None
 
     def closed_by(self, number, limit, assumed):
-        """What closes a path by a node, of the first so many literals that stand and one assumed."""
+        """What closes a path by a want, of the first so many literals that stand and one assumed."""
         book, size = self.leaves[number]
-        return (book, self.circuit.blame(self.circuit.nodes[number], limit, assumed), size)
+        return (book, self.circuit.blame(number, limit, assumed), size)
 
     def go_case(self, literal, why):
         """Puts a literal on the path as one side of a case."""
@@ -117,7 +117,7 @@ class Search:
         """Puts a literal on the path.
 
         Its mate is the literal of the other side; the side tells the head of the book of both, and whether this
-        one comes first in it; why tells what closes the other side, by itself or as the number of a node that does,
+        one comes first in it; why tells what closes the other side, by itself or as the number of a want that does,
         or is None where it is still to be tried.
         """
         self.circuit.stand(literal)
@@ -129,7 +129,7 @@ class Search:
         while self.many_seen < len(standing):
             literal = standing[self.many_seen]
             self.many_seen += 1
-            for number in self.circuit.uses.get(literal // 2, []) + self.circuit.woken(literal):
+            for number in self.circuit.woken(literal):
                 closed = self.heed(number)
                 if closed is not None:
                     return closed
@@ -147,7 +147,7 @@ class Search:
         return closed
 
     def keep_book(self, closed):
-        """Keeps what closes a path for all paths of the literals that it needs; tells the number of its node."""
+        """Keeps what closes a path for all paths of the literals that it needs; tells the number of its want."""
         book, used, size = closed
         self.leaves.append((book, size))
         return self.circuit.lay_or([opposite(literal) for literal in used])
@@ -172,7 +172,7 @@ class Search:
         return closed[0]
 
     def learnt(self, closed):
-        """What closes a path, as the number of a node where it is worth keeping."""
+        """What closes a path, as the number of a want where it is worth keeping."""
         if closed[2] <= LARGEST_KEPT and len(closed[1]) <= MOST_NEEDED:
             return self.keep_book(closed)
         return closed
@@ -211,8 +211,8 @@ class Search:
         """A literal that would help a told statement that is open, and not so in a world if there is one; else None."""
         best = None
         truths = {}
-        for node in self.circuit.nodes[:self.many_laid]:
-            if self.circuit.truth(node) is not None or world is not None and self.is_so(world, node, truths):
+        for node in self.circuit.wants[:self.many_laid]:
+            if self.circuit.truths[node] is not None or world is not None and self.is_so(world, node, truths):
                 continue
             literals = self.circuit.left_in(node)
             weight, literal = max([(self.weights.get(one // 2, 0), -one) for one in literals])
@@ -223,14 +223,19 @@ class Search:
         return None if best is None else best[2]
 
     def is_so(self, world, node, truths):
-        """Whether a node is true in a world; the truths of atoms are kept in a dict."""
-        if not isinstance(node, int):
-            parts = [self.is_so(world, part, truths) for part in node[1]]
-            return all(parts) if node[0] == "and" else any(parts)
-        atom = node // 2
-        if atom not in truths:
-            truths[atom] = holds(world, self.atoms[atom])
-        return truths[atom] == (node & 1 == 0)
+        """Whether an open node is true in a world of the path; the truths of atoms are kept in a dict."""
+        word = self.circuit.node_words[node]
+        if word == "literal":
+            literal = self.circuit.parts[node]
+            if literal // 2 not in truths:
+                truths[literal // 2] = holds(world, self.atoms[literal // 2])
+            return truths[literal // 2] == (literal & 1 == 0)
+        # One part settles an or by being so, an and by not being so.
+        settling = word == "or"
+        for part in self.circuit.open_parts(node):
+            if self.is_so(world, part, truths) == settling:
+                return settling
+        return not settling
 
 
 def joined(side, row, other_row):

@@ -51,7 +51,7 @@ class State:
 
     def tell(self, atom, sign):
         """Takes a literal in."""
-        self.take(self.ground.fact(atom, sign), self.enter(("told", atom, sign)))
+        self.take(self.ground.literal_fact(atom, sign), self.enter(("told", atom, sign)))
 
     def take(self, fact, entry):
         """Takes a fact in that a step of the ledger shows."""
@@ -243,7 +243,7 @@ class State:
         cites = tuple([self.cite(place, other_place) for place, other_place in zip(places, others)])
         first, second = self.ground.term_of(one), self.ground.term_of(other)
         entry = self.enter(("like", first, second, cites))
-        self.take(self.ground.fact(("same", first, second), True), entry)
+        self.take(self.ground.literal_fact(("same", first, second), True), entry)
 
     def cite(self, one, other):
         """The number of a step by which two places are equal or alike, None where none is needed."""
@@ -266,7 +266,7 @@ class State:
     def tell_read(self, number, told, step):
         """Tells what a read of a put is equal to, by a step."""
         del self.undecided[number]
-        self.take(self.ground.fact(("same", self.ground.term_of(number), told), True), self.enter(step))
+        self.take(self.ground.literal_fact(("same", self.ground.term_of(number), told), True), self.enter(step))
 
     def unlikeness(self, form, read):
         """The number of a step by which a read's place and its put's are not equal, or None."""
